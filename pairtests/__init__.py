@@ -1,0 +1,1 @@
+"""Pairtests: few tests that meet every pair or three of settings."""

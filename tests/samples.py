@@ -1,0 +1,138 @@
+"""What several test files use: books, things that are none, and plain second answers to compare with."""
+
+import itertools
+import random
+
+NAN = float("nan")
+
+# Things of many kinds, none of them a whole number, a tuple or a list.
+ODD_THINGS = [
+    None, True, False, "", "1", "ab", 0.0, 1.0, 2.5, NAN, 1j, b"ab", {}, {0: 0}, {1, 2}, frozenset(), object(),
+    len, int, range(2), Exception("x"),
+]
+
+NO_NUMBERS = ODD_THINGS + [(), (1,), [], [1]]
+
+NO_TUPLES = ODD_THINGS + [[], [1], -1, 0, 1, 2, 10 ** 30]
+
+GOOD_BOOKS = [
+    ((1,), ()),
+    ((4,), ()),
+    ((2,), (((0, 0),),)),
+    ((1,), (((0, 0),),)),
+    ((2, 2), ()),
+    ((2, 3), (((0, 1), (1, 2)),)),
+    ((2, 2, 2), (((0, 0), (1, 0), (2, 0)),)),
+    ((2, 2, 2), (((0, 0), (1, 1)), ((0, 0), (1, 1)))),
+    ((3, 2, 2), (((0, 0), (1, 0)), ((0, 0), (1, 1)))),
+    ((3, 2, 2), (((0, 2),), ((0, 2), (1, 0)), ((0, 2), (1, 0), (2, 1)))),
+    ((2, 2, 2), (((1, 0),), ((1, 1),))),
+    ((1, 1, 1, 1, 1, 1), ()),
+    ((4, 4, 4, 3, 2, 1), ()),
+    ((4, 4, 4, 3, 2), (((0, 3), (2, 3), (4, 1)),)),
+    ((3, 3, 3, 3, 2, 2), (((0, 0), (5, 1)), ((3, 2),))),
+    ((2, 3, 1, 4), (((0, 1), (2, 0)),) * 12),
+]
+
+
+def wrong_levels():
+    beyond = [
+        (), (1,) * 7, (0,), (5,), (-1,), (2, 0), (2, 5), (2, -2), (10 ** 30,), (2, 10 ** 30),
+        (4, 4, 3, 3, 3), (4, 3, 3, 3, 2, 2), (4, 4, 4, 4, 2), (4,) * 6, (1,) * 1000,
+    ]
+    return beyond + NO_TUPLES + [(2, odd) for odd in NO_NUMBERS] + [(odd, 2) for odd in NO_NUMBERS]
+
+
+def wrong_pairs():
+    """What is no setting of a book with the levels (2, 3, 2)."""
+    beyond = [
+        (), (0,), (0, 0, 0), (3, 0), (-1, 0), (0, 2), (1, 3), (2, 2), (0, -1), (10 ** 30, 0), (0, 10 ** 30),
+        ((0, 0),), [0, 0],
+    ]
+    return beyond + NO_TUPLES + [(0, odd) for odd in NO_NUMBERS] + [(odd, 0) for odd in NO_NUMBERS]
+
+
+def wrong_bans():
+    """What is no ban of a book with the levels (2, 3, 2)."""
+    beyond = [
+        (), (0, 0), [(0, 0)], ((1, 0), (0, 0)), ((0, 0), (0, 0)), ((0, 0), (0, 1)), ((2, 0), (1, 0)),
+        ((0, 0), (2, 0), (1, 0)), ((0, 0), (1, 0), (1, 0)), ((0, 0), (1, 0), (0, 0)),
+        ((0, 0), (1, 0), (2, 0), (3, 0)), ((0, 0), (1, 0), (2, 0), (2, 1)),
+    ]
+    firsts = [(pair,) for pair in wrong_pairs()]
+    lasts = [((0, 1), (1, 2), pair) for pair in wrong_pairs()]
+    return beyond + NO_TUPLES + firsts + lasts
+
+
+def wrong_books():
+    levels = (2, 3, 2)
+    ban = ((0, 0),)
+    books = [(), (levels,), (levels, (), ()), (levels, (), None), [levels, ()], ((), levels), (list(levels), ())]
+    books += [(levels, (ban,) * 13), (levels, (ban,) * 1000), (levels, [ban]), (levels, ban), (levels, [])]
+    # Four settings, one each of four things that the book does have.
+    books += [((2, 2, 2, 2), (((0, 0), (1, 0), (2, 0), (3, 0)),))]
+    books += NO_TUPLES
+    books += [(thing, ()) for thing in wrong_levels()]
+    books += [(levels, thing) for thing in NO_TUPLES]
+    books += [(levels, (thing,)) for thing in wrong_bans()]
+    books += [(levels, (ban, thing)) for thing in wrong_bans()]
+    return books
+
+
+def wrong_strengths(book):
+    beyond = [number for number in (2, 3) if number > len(book[0])]
+    return beyond + [0, 4, 5, 6, 7, -1, -2, -3, 10 ** 30, -10 ** 30] + NO_NUMBERS
+
+
+def strengths(book):
+    return [number for number in (1, 2, 3) if number <= len(book[0])]
+
+
+def plain_meets(row, meeting):
+    return all(row[thing] == setting for thing, setting in meeting)
+
+
+def plain_tests(book):
+    rows = itertools.product(*[range(level) for level in book[0]])
+    return sorted(row for row in rows if not any(plain_meets(row, ban) for ban in book[1]))
+
+
+def plain_meetings(book, many):
+    found = []
+    for things in itertools.combinations(range(len(book[0])), many):
+        for settings in itertools.product(*[range(book[0][thing]) for thing in things]):
+            found.append(tuple(zip(things, settings)))
+    return sorted(found)
+
+
+def plain_possible(book, many):
+    tests = plain_tests(book)
+    return [meeting for meeting in plain_meetings(book, many) if any(plain_meets(row, meeting) for row in tests)]
+
+
+def plain_impossible(book, many):
+    tests = plain_tests(book)
+    return [meeting for meeting in plain_meetings(book, many) if not any(plain_meets(row, meeting) for row in tests)]
+
+
+def plain_whole_bans(book):
+    every = [meeting for many in strengths(book) for meeting in plain_impossible(book, many)]
+    whole = [one for one in every if not any(set(other) < set(one) for other in every)]
+    return sorted(whole, key=lambda meeting: (len(meeting), meeting))
+
+
+def drawn_ban(levels, chance):
+    things = sorted(chance.sample(range(len(levels)), chance.randint(1, min(3, len(levels)))))
+    return tuple((thing, chance.randrange(levels[thing])) for thing in things)
+
+
+def drawn_book(chance):
+    levels = tuple(chance.randint(1, 3) for thing in range(chance.randint(1, 4)))
+    bans = tuple(drawn_ban(levels, chance) for ban in range(chance.randint(0, 12)))
+    return (levels, bans)
+
+
+def drawn_books(many):
+    """The same books each time: the draw begins from a fixed number."""
+    chance = random.Random(2)
+    return [drawn_book(chance) for step in range(many)]
