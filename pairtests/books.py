@@ -1,6 +1,6 @@
 """Books, a tuple (levels, bans) each, and the tests of a book."""
 
-from pairtests.errors import BadBook
+from pairtests.errors import BadBook, BadTests
 
 MOST_THINGS = 6
 MOST_SETTINGS = 4
@@ -80,3 +80,21 @@ def all_rows(levels):
 def all_tests(book):
     checked(book)
     return [row for row in all_rows(book[0]) if not meets_any(row, book[1])]
+
+
+def is_row(levels, thing):
+    if not is_tuple(thing, len(levels), len(levels)):
+        return False
+    return all([is_whole(setting, 0, level - 1) for setting, level in zip(thing, levels)])
+
+
+def is_test(book, thing):
+    return is_row(book[0], thing) and not meets_any(thing, book[1])
+
+
+def check_tests(book, tests):
+    if not isinstance(tests, list):
+        raise BadTests(0)
+    for place, test in enumerate(tests):
+        if not is_test(book, test):
+            raise BadTests(place)

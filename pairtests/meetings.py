@@ -37,10 +37,14 @@ def meetings_among(pairs, many):
     return meetings
 
 
+def meetings_of(test, strength):
+    return meetings_among(list(enumerate(test)), strength)
+
+
 def met_by(tests, strength):
     met = {}
     for test in tests:
-        for meeting in meetings_among(list(enumerate(test)), strength):
+        for meeting in meetings_of(test, strength):
             met[meeting] = True
     return met
 

@@ -3,6 +3,8 @@
 import itertools
 import random
 
+from pairtests.errors import TestError
+
 NAN = float("nan")
 
 # Things of many kinds, none of them a whole number, a tuple or a list.
@@ -14,6 +16,8 @@ ODD_THINGS = [
 NO_NUMBERS = ODD_THINGS + [(), (1,), [], [1]]
 
 NO_TUPLES = ODD_THINGS + [[], [1], -1, 0, 1, 2, 10 ** 30]
+
+NO_LISTS = ODD_THINGS + [(), ((0, 0, 0),), ((0, 0, 0), (1, 1, 1)), (0, 0, 0), -1, 0, 1, 2, 10 ** 30]
 
 GOOD_BOOKS = [
     ((1,), ()),
@@ -84,6 +88,24 @@ def wrong_strengths(book):
     return beyond + [0, 4, 5, 6, 7, -1, -2, -3, 10 ** 30, -10 ** 30] + NO_NUMBERS
 
 
+# The book that wrong_rows speaks of.
+ROWS_BOOK = ((2, 3, 2), (((0, 1), (1, 2)), ((0, 0), (1, 0), (2, 1))))
+
+
+def wrong_rows():
+    """What is no test of ROWS_BOOK: no row, or one that meets a ban."""
+    beyond = [
+        (), (0,), (0, 0), (0, 0, 0, 0), (0, 0, 0, None), (2, 0, 0), (0, 3, 0), (0, 0, 2), (-1, 0, 0), (0, -1, 0),
+        (0, 0, -1), (10 ** 30, 0, 0), (0, 0, -10 ** 30), [], [0, 0, 0], ((0, 0), (1, 0), (2, 0)), ((0, 0, 0),),
+        [(0, 0, 0)], "000",
+    ]
+    banned = [(1, 2, 0), (1, 2, 1), (0, 0, 1)]
+    # 1.0 and True are the same as 1 to Python, and (1, 1.0, True) the same as a test: it is none even so.
+    alike = [(True, 0, 0), (0, False, 0), (0, 0, False), (1, 1, True), (1.0, 0, 0), (0, 0.0, 0), (1, 1.0, True)]
+    odd = [(odd, 0, 0) for odd in NO_NUMBERS] + [(0, 0, odd) for odd in NO_NUMBERS]
+    return beyond + banned + alike + odd + NO_TUPLES
+
+
 def strengths(book):
     return [number for number in (1, 2, 3) if number <= len(book[0])]
 
@@ -121,6 +143,56 @@ def plain_whole_bans(book):
     return sorted(whole, key=lambda meeting: (len(meeting), meeting))
 
 
+def plain_met(tests, strength):
+    """The meetings that some of these tests meet."""
+    met = set()
+    for row in tests:
+        met.update(itertools.combinations(enumerate(row), strength))
+    return met
+
+
+def plain_missing(book, strength, tests):
+    met = plain_met(tests, strength)
+    return [meeting for meeting in plain_possible(book, strength) if meeting not in met]
+
+
+def without(tests, place):
+    return tests[:place] + tests[place + 1:]
+
+
+def plain_needless(strength, tests):
+    met = plain_met(tests, strength)
+    return [place for place in range(len(tests)) if plain_met(without(tests, place), strength) == met]
+
+
+def plain_trimmed(strength, tests):
+    left = list(tests)
+    for place in reversed(range(len(tests))):
+        others = without(left, place)
+        if plain_met(others, strength) == plain_met(left, strength):
+            left = others
+    return left
+
+
+def plain_in_order(strength, tests):
+    left = list(tests)
+    order = []
+    while left:
+        ahead = plain_met(order, strength)
+        gains = [len(plain_met([row], strength) - ahead) for row in left]
+        order.append(left.pop(gains.index(max(gains))))
+    return order
+
+
+def refusal(asked, *given):
+    """The refusal that this call ends with."""
+    try:
+        asked(*given)
+    except TestError as error:
+        return error
+    raise AssertionError("nothing was refused")
+
+
 def drawn_ban(levels, chance):
     things = sorted(chance.sample(range(len(levels)), chance.randint(1, min(3, len(levels)))))
     return tuple((thing, chance.randrange(levels[thing])) for thing in things)
@@ -136,3 +208,25 @@ def drawn_books(many):
     """The same books each time: the draw begins from a fixed number."""
     chance = random.Random(2)
     return [drawn_book(chance) for step in range(many)]
+
+
+def drawn_small_books(many):
+    """Books of 6 to 16 tests, with few bans, so that covers of them take some choosing."""
+    chance = random.Random(3)
+    found = []
+    while len(found) < many:
+        levels = tuple(chance.choice((1, 2, 2, 2, 3)) for thing in range(chance.randint(2, 5)))
+        book = (levels, tuple(drawn_ban(levels, chance) for ban in range(chance.randint(0, 5))))
+        if 6 <= len(plain_tests(book)) <= 16:
+            found.append(book)
+    return found
+
+
+def drawn_tests(book, many):
+    """Several lists of tests of the book, some of them the same one more than once."""
+    chance = random.Random(5)
+    every = plain_tests(book)
+    lists = [[], list(every), list(reversed(every)), every + every]
+    for step in range(many if every else 0):
+        lists.append([chance.choice(every) for place in range(chance.randint(1, 12))])
+    return lists

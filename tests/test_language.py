@@ -37,6 +37,9 @@ BARRED_NODES = (
 )
 
 
+USED_ON_THE_SPOT = ("set", "zip", "enumerate", "reversed", "range", "items", "keys", "values")
+
+
 def functions_of(tree):
     return [node for node in ast.walk(tree) if isinstance(node, ast.FunctionDef)]
 
@@ -111,6 +114,42 @@ class Language(unittest.TestCase):
             defined = {one.name for one in source.body if isinstance(one, (ast.FunctionDef, ast.ClassDef))}
             defined |= {target.id for one in source.body if isinstance(one, ast.Assign) for target in one.targets}
             self.assertLessEqual({one.name for one in node.names}, defined, place)
+
+    def test_no_two_files_draw_from_one_another(self):
+        drawn = {}
+        for path, node in self.nodes(ast.ImportFrom):
+            drawn.setdefault(path.stem, set()).add(node.module.split(".")[1])
+        for stem in drawn:
+            reached = set()
+            ahead = set(drawn[stem])
+            while ahead:
+                reached |= ahead
+                ahead = {further for one in ahead for further in drawn.get(one, ())} - reached
+            self.assertNotIn(stem, reached, f"L16 {stem}")
+
+    def test_an_expression_by_itself_is_a_call(self):
+        for path, tree in self.trees.items():
+            for node in ast.walk(tree):
+                if isinstance(node, ast.Expr) and node is not tree.body[0]:
+                    self.assertIsInstance(node.value, ast.Call, f"L6 {path}:{node.lineno}")
+
+    def test_keywords_of_pythons_own(self):
+        allowed = {"sorted": {"key", "reverse"}, "min": {"key", "default"}, "max": {"key", "default"}}
+        allowed |= {"sum": {"start"}, "enumerate": {"start"}, "zip": {"strict"}}
+        for path, node in self.nodes(ast.Call):
+            name = getattr(node.func, "id", getattr(node.func, "attr", ""))
+            if name in PYTHONS_NAMES | METHODS:
+                given = {keyword.arg for keyword in node.keywords}
+                self.assertLessEqual(given, allowed.get(name, set()), f"L22 {path}:{node.lineno}")
+
+    def test_sets_and_views_are_used_on_the_spot(self):
+        for path, tree in self.trees.items():
+            used = {id(child): node for node in ast.walk(tree) for child in ast.iter_child_nodes(node)}
+            for node in ast.walk(tree):
+                if isinstance(node, ast.Call):
+                    name = getattr(node.func, "id", getattr(node.func, "attr", ""))
+                    kept = isinstance(used[id(node)], (ast.Assign, ast.Return, ast.Tuple, ast.List, ast.Attribute))
+                    self.assertFalse(name in USED_ON_THE_SPOT and kept, f"L23, L24 {path}:{node.lineno}")
 
     def test_names(self):
         for path, node in self.nodes(ast.Name):
