@@ -92,9 +92,13 @@ def is_test(book, thing):
     return is_row(book[0], thing) and not meets_any(thing, book[1])
 
 
-def check_tests(book, tests):
-    if not isinstance(tests, list):
+def check_list(things, is_right):
+    if not isinstance(things, list):
         raise BadTests(0)
-    for place, test in enumerate(tests):
-        if not is_test(book, test):
+    for place, thing in enumerate(things):
+        if not is_right(thing):
             raise BadTests(place)
+
+
+def check_tests(book, tests):
+    check_list(tests, lambda test: is_test(book, test))

@@ -72,11 +72,12 @@ def take_out(meetings, places, gains):
             gains[place] = gains[place] - 1
 
 
-def in_order(book, strength, tests):
-    check_all(book, strength, tests)
+# Tests in order behind others: what those ahead meet is no gain.
+def in_order_behind(ahead, tests, strength):
     places = places_by_meeting(tests, strength)
     # How many meetings each test would meet that none ahead of it meets; a test that is taken has none left.
     gains = [len(meetings_of(test, strength)) for test in tests]
+    take_out(list(met_by(ahead, strength)), places, gains)
     taken = []
     while max(gains, default=0) > 0:
         place = gains.index(max(gains))
@@ -84,3 +85,8 @@ def in_order(book, strength, tests):
         take_out(meetings_of(tests[place], strength), places, gains)
     rest = [place for place in range(len(tests)) if place not in taken]
     return [tests[place] for place in taken + rest]
+
+
+def in_order(book, strength, tests):
+    check_all(book, strength, tests)
+    return in_order_behind([], tests, strength)

@@ -20,24 +20,29 @@ def small_tests(book, strength):
     return tests
 
 
-def masks_by_meeting(tests, strength):
-    masks = {}
+def tests_by_bit(tests):
+    found = {}
     bit = 1
     for test in tests:
+        found[bit] = test
+        bit = bit + bit
+    return found
+
+
+def masks_by_meeting(tests, strength):
+    masks = {}
+    for bit, test in tests_by_bit(tests).items():
         for meeting in meetings_of(test, strength):
             masks[meeting] = masks.get(meeting, 0) + bit
-        bit = bit + bit
     return masks
 
 
-def tests_in(mask, tests):
-    found = []
-    rest = mask
-    for test in tests:
-        if rest % 2 == 1:
-            found.append(test)
-        rest = rest // 2
-    return found
+# One meeting for each mask: which of several that the same tests meet makes no odds.
+def meetings_by_mask(tests, strength):
+    meetings = {}
+    for meeting, mask in masks_by_meeting(tests, strength).items():
+        meetings[mask] = meeting
+    return meetings
 
 
 def bits_of(mask):
@@ -103,13 +108,14 @@ def hit_by(masks, many):
 
 def fewest(book, strength):
     tests = small_tests(book, strength)
-    masks = narrowest(list(masks_by_meeting(tests, strength).values()))
+    masks = narrowest(list(meetings_by_mask(tests, strength)))
     many = len(some_apart(masks))
     found = hit_by(masks, many)
     while found is None:
         many = many + 1
         found = hit_by(masks, many)
-    return tests_in(found, tests)
+    by_bit = tests_by_bit(tests)
+    return [by_bit[bit] for bit in bits_of(found)]
 
 
 # So many of the smallest masks would be apart if nothing but their sizes counted: there are no more than these.
@@ -154,8 +160,5 @@ def most_apart(masks):
 
 
 def apart(book, strength):
-    masks = masks_by_meeting(small_tests(book, strength), strength)
-    meetings = {}
-    for meeting, mask in masks.items():
-        meetings[mask] = meeting
+    meetings = meetings_by_mask(small_tests(book, strength), strength)
     return sorted([meetings[mask] for mask in most_apart(narrowest(list(meetings)))])

@@ -1,9 +1,12 @@
 """What several test files use: books, things that are none, and plain second answers to compare with."""
 
+import functools
 import itertools
+import operator
 import random
+import unittest
 
-from pairtests.errors import TestError
+from pairtests.errors import BadTests, TestError
 
 NAN = float("nan")
 
@@ -37,6 +40,42 @@ GOOD_BOOKS = [
     ((3, 3, 3, 3, 2, 2), (((0, 0), (5, 1)), ((3, 2),))),
     ((2, 3, 1, 4), (((0, 1), (2, 0)),) * 12),
 ]
+
+# Those of them that a slow plain way can be gone for.
+LESSER_BOOKS = GOOD_BOOKS[:12] + GOOD_BOOKS[-1:]
+
+NO_TEST = ((2, 2, 1), (((0, 0),), ((0, 1),)))
+
+# Just 24 tests: without bans, with one, and of 384 rows.
+JUST_SMALL = [
+    ((4, 3, 2), ()), ((2, 2, 2, 3), ()), ((1, 2, 1, 4, 3), ()), ((3, 3, 3), (((0, 0), (1, 0)),)),
+    ((2, 2, 2, 2, 2), (((0, 0), (1, 0)),)),
+    ((4, 4, 4, 3, 2, 1), (((0, 1),), ((0, 2),), ((0, 3),), ((1, 0),), ((1, 1),), ((1, 3),))),
+]
+
+THREES = (((0, 0), (1, 0), (2, 0)), ((0, 1), (1, 1), (2, 1)))
+
+# Just 25 tests, of 27 and of 324 rows.
+JUST_TOO_BIG = [
+    ((3, 3, 3), THREES),
+    ((3, 3, 3, 4, 3), THREES + (((3, 0),), ((3, 1),), ((3, 2),), ((4, 0),), ((4, 2),))),
+]
+
+# Strength 2 takes more tests here than there are meetings apart: what is apart does not tell how many are the fewest.
+WITH_A_GAP = [
+    ((2, 2, 2, 2), ()), ((2, 2, 2, 2), (((0, 1), (1, 0), (2, 1)),)),
+    ((2, 2, 2, 2), (((0, 0), (2, 0), (3, 1)), ((0, 1), (1, 0), (3, 0)))), ((3, 2, 2, 1, 1, 2), (((0, 1), (4, 0)),)),
+    ((2, 3, 2, 2), (((1, 2), (3, 0)), ((0, 0), (2, 0), (3, 1)), ((0, 1), (1, 1), (2, 1)))),
+]
+
+# Strength 2 takes 6 tests here, and only 4 meetings are apart.
+WITH_A_WIDE_GAP = ((2, 2, 2, 2, 2), (((0, 1), (1, 1), (4, 1)), ((0, 0), (1, 1), (4, 0))))
+
+# Strength 2 takes 12 tests here, and only 9 meetings are apart.
+WITH_A_WIDER_GAP = ((3, 2, 2, 2, 4), (
+    ((0, 0), (2, 0)), ((0, 2),), ((1, 0), (2, 1), (3, 1)), ((0, 1), (1, 1), (2, 1)), ((0, 0), (2, 1), (3, 0)),
+    ((1, 0), (2, 0), (3, 0)),
+))
 
 
 def wrong_levels():
@@ -184,6 +223,26 @@ def plain_in_order(strength, tests):
     return order
 
 
+def some_cover(book, strength, many):
+    """Whether some choice of just so many tests is a cover; what each test meets is held as the bits of a number."""
+    meetings = plain_possible(book, strength)
+    met = [
+        sum(1 << place for place, meeting in enumerate(meetings) if plain_meets(row, meeting))
+        for row in plain_tests(book)
+    ]
+    whole = (1 << len(meetings)) - 1
+    return any(functools.reduce(operator.or_, chosen, 0) == whole for chosen in itertools.combinations(met, many))
+
+
+def plain_fewest(book, strength):
+    """How many tests the fewest are, by trying all choices, fewer ones first."""
+    return next(many for many in itertools.count() if some_cover(book, strength, many))
+
+
+def are_apart(meetings, tests):
+    return all(sum(plain_meets(row, meeting) for meeting in meetings) <= 1 for row in tests)
+
+
 def refusal(asked, *given):
     """The refusal that this call ends with."""
     try:
@@ -191,6 +250,17 @@ def refusal(asked, *given):
     except TestError as error:
         return error
     raise AssertionError("nothing was refused")
+
+
+class Asking(unittest.TestCase):
+    def refuse(self, kind, asked, *given):
+        error = refusal(asked, *given)
+        self.assertIs(type(error), kind, (asked.__name__, repr(given)[:300]))
+        return error
+
+    def refuse_tests(self, at, asked, *given):
+        error = self.refuse(BadTests, asked, *given)
+        self.assertEqual((type(error.at), error.at), (int, at), (asked.__name__, repr(given)[:300]))
 
 
 def drawn_ban(levels, chance):

@@ -6,8 +6,6 @@ import samples
 from pairtests.building import built
 from pairtests.errors import BadBook, BadStrength
 
-NO_TEST = ((2, 2, 1), (((0, 0),), ((0, 1),)))
-
 # The greatest that the bounds of a book allow, and others near them.
 GREAT_LEVELS = [
     (4, 4, 4, 3, 2, 1), (1, 2, 3, 4, 4, 4), (4, 4, 4, 3, 2), (3, 3, 3, 3, 2, 2), (4, 4, 3, 2, 2, 2), (4, 4, 4, 4),
@@ -63,11 +61,11 @@ class Built(unittest.TestCase):
 
     def test_the_empty_list_where_nothing_is_possible(self):
         for strength in (1, 2, 3):
-            self.assertEqual(built(NO_TEST, strength), [])
+            self.assertEqual(built(samples.NO_TEST, strength), [])
         self.assertEqual(built(((1,), (((0, 0),),)), 1), [])
 
     def test_whatever_is_no_strength(self):
-        for book in samples.GOOD_BOOKS + [NO_TEST]:
+        for book in samples.GOOD_BOOKS + [samples.NO_TEST]:
             for strength in samples.wrong_strengths(book):
                 self.assertIs(type(samples.refusal(built, book, strength)), BadStrength)
 

@@ -11,7 +11,6 @@ FUNCTIONS = (missing, is_cover, needless, trimmed, in_order)
 LISTS = (missing, needless, trimmed, in_order)
 SQUARE = ((2, 2), ())
 CUBE = ((2, 2, 2), ())
-NO_TEST = ((2, 2, 1), (((0, 0),), ((0, 1),)))
 GOOD = [(0, 0, 0), (1, 1, 1), (0, 2, 1), (1, 0, 0), (0, 0, 0)]
 
 
@@ -60,11 +59,11 @@ class Refusals(unittest.TestCase):
 
     def test_in_a_book_without_a_test_each_row_is_refused(self):
         for asked in FUNCTIONS:
-            self.assertEqual(samples.refusal(asked, NO_TEST, 1, [(0, 0, 0)]).at, 0)
-            self.assertIs(type(samples.refusal(asked, NO_TEST, 1, [(1, 1, 0)])), BadTests)
+            self.assertEqual(samples.refusal(asked, samples.NO_TEST, 1, [(0, 0, 0)]).at, 0)
+            self.assertIs(type(samples.refusal(asked, samples.NO_TEST, 1, [(1, 1, 0)])), BadTests)
 
     def test_whatever_is_no_strength(self):
-        for book in (((2,), ()), SQUARE, samples.ROWS_BOOK, NO_TEST):
+        for book in (((2,), ()), SQUARE, samples.ROWS_BOOK, samples.NO_TEST):
             for strength in samples.wrong_strengths(book):
                 for asked in FUNCTIONS:
                     for tests in ([], None, [None]):
@@ -125,7 +124,7 @@ class Missing(unittest.TestCase):
 
     def test_a_book_without_a_test(self):
         for strength in (1, 2, 3):
-            self.assertEqual(missing(NO_TEST, strength, []), [])
+            self.assertEqual(missing(samples.NO_TEST, strength, []), [])
 
     def test_like_the_plain_way(self):
         for book in samples.GOOD_BOOKS + samples.drawn_books(60):
@@ -157,7 +156,7 @@ class IsCover(unittest.TestCase):
 
     def test_no_tests_where_nothing_is_possible(self):
         for strength in (1, 2, 3):
-            self.assertIs(is_cover(NO_TEST, strength, []), True)
+            self.assertIs(is_cover(samples.NO_TEST, strength, []), True)
         self.assertIs(is_cover(((1,), (((0, 0),),)), 1, []), True)
 
     def test_like_the_plain_way(self):
@@ -299,7 +298,7 @@ class NothingChanges(unittest.TestCase):
             alone = asked(CUBE, 2, first)
             asked(CUBE, 2, second)
             asked(CUBE, 1, first)
-            asked(NO_TEST, 1, [])
+            asked(samples.NO_TEST, 1, [])
             self.assertEqual(asked(CUBE, 2, first), alone)
 
 

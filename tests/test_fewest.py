@@ -1,7 +1,4 @@
 import copy
-import functools
-import itertools
-import operator
 import time
 import unittest
 
@@ -11,22 +8,6 @@ from pairtests.errors import BadBook, BadStrength, TooBig
 from pairtests.fewest import apart, fewest
 
 FUNCTIONS = (fewest, apart)
-NO_TEST = ((2, 2, 1), (((0, 0),), ((0, 1),)))
-
-# Just 24 tests: without bans, with one, and of 384 rows.
-JUST_SMALL = [
-    ((4, 3, 2), ()), ((2, 2, 2, 3), ()), ((1, 2, 1, 4, 3), ()), ((3, 3, 3), (((0, 0), (1, 0)),)),
-    ((2, 2, 2, 2, 2), (((0, 0), (1, 0)),)),
-    ((4, 4, 4, 3, 2, 1), (((0, 1),), ((0, 2),), ((0, 3),), ((1, 0),), ((1, 1),), ((1, 3),))),
-]
-
-THREES = (((0, 0), (1, 0), (2, 0)), ((0, 1), (1, 1), (2, 1)))
-
-# Just 25 tests, of 27 and of 324 rows.
-JUST_TOO_BIG = [
-    ((3, 3, 3), THREES),
-    ((3, 3, 3, 4, 3), THREES + (((3, 0),), ((3, 1),), ((3, 2),), ((4, 0),), ((4, 2),))),
-]
 
 # Levels, strength, how many tests are the fewest, how many meetings are apart at the most.
 KNOWN = [
@@ -34,14 +15,6 @@ KNOWN = [
     ((2, 2, 2), 3, 8, 8), ((2, 2, 2, 2), 2, 5, 4), ((2, 2, 2, 2), 3, 8, 8), ((4, 3, 2), 2, 12, 12),
     ((4, 3, 2), 3, 24, 24), ((3, 2, 2, 2), 1, 3, 3), ((3, 2, 2, 2), 2, 6, 6), ((3, 2, 2, 2), 3, 12, 12),
     ((3, 3, 2), 2, 9, 9), ((1, 1, 1, 1, 1, 1), 3, 1, 1),
-]
-
-
-# Strength 2 takes more tests here than there are meetings apart: what is apart does not tell how many are the fewest.
-WITH_A_GAP = [
-    ((2, 2, 2, 2), ()), ((2, 2, 2, 2), (((0, 1), (1, 0), (2, 1)),)),
-    ((2, 2, 2, 2), (((0, 0), (2, 0), (3, 1)), ((0, 1), (1, 0), (3, 0)))), ((3, 2, 2, 1, 1, 2), (((0, 1), (4, 0)),)),
-    ((2, 3, 2, 2), (((1, 2), (3, 0)), ((0, 0), (2, 0), (3, 1)), ((0, 1), (1, 1), (2, 1)))),
 ]
 
 # As many as can be are apart here only if no one of them is met by a test that meets few.
@@ -58,23 +31,8 @@ WITH_A_TEST_LEFT_OUT = [
 def small_books():
     """Books that a search through all choices can be done for."""
     books = samples.GOOD_BOOKS + samples.drawn_books(100) + samples.drawn_small_books(80)
-    books = books + WITH_A_GAP + WITH_A_TEST_LEFT_OUT
+    books = books + samples.WITH_A_GAP + WITH_A_TEST_LEFT_OUT
     return [book for book in books if len(samples.plain_tests(book)) <= 16]
-
-
-def some_cover(book, strength, many):
-    """Whether some choice of just so many tests is a cover; what each test meets is held as the bits of a number."""
-    meetings = samples.plain_possible(book, strength)
-    met = [
-        sum(1 << place for place, meeting in enumerate(meetings) if samples.plain_meets(row, meeting))
-        for row in samples.plain_tests(book)
-    ]
-    whole = (1 << len(meetings)) - 1
-    return any(functools.reduce(operator.or_, chosen, 0) == whole for chosen in itertools.combinations(met, many))
-
-
-def are_apart(meetings, tests):
-    return all(sum(samples.plain_meets(row, meeting) for meeting in meetings) <= 1 for row in tests)
 
 
 def most_disjoint(groups):
@@ -89,16 +47,16 @@ def most_disjoint(groups):
 
 class Refusals(unittest.TestCase):
     def test_just_24_tests_are_let_by(self):
-        for book in JUST_SMALL:
+        for book in samples.JUST_SMALL:
             self.assertEqual(len(all_tests(book)), 24)
             for strength in samples.strengths(book):
                 self.assertGreaterEqual(len(fewest(book, strength)), len(apart(book, strength)))
                 self.assertGreater(len(apart(book, strength)), 0)
 
     def test_25_tests_and_more_are_too_big(self):
-        for book in JUST_TOO_BIG:
+        for book in samples.JUST_TOO_BIG:
             self.assertEqual(len(all_tests(book)), 25)
-        for book in JUST_TOO_BIG + [((3, 3, 3), ()), ((2, 2, 2, 2, 2), ()), ((4, 4, 4, 3, 2, 1), ())]:
+        for book in samples.JUST_TOO_BIG + [((3, 3, 3), ()), ((2, 2, 2, 2, 2), ()), ((4, 4, 4, 3, 2, 1), ())]:
             for strength in samples.strengths(book):
                 for asked in FUNCTIONS:
                     self.assertIs(type(samples.refusal(asked, book, strength)), TooBig)
@@ -111,7 +69,7 @@ class Refusals(unittest.TestCase):
         self.assertEqual((fewest(none, 3), apart(none, 3)), ([], []))
 
     def test_whatever_is_no_strength(self):
-        for book in [((2,), ()), ((2, 2), ()), NO_TEST] + JUST_SMALL + JUST_TOO_BIG:
+        for book in [((2,), ()), ((2, 2), ()), samples.NO_TEST] + samples.JUST_SMALL + samples.JUST_TOO_BIG:
             for strength in samples.wrong_strengths(book):
                 for asked in FUNCTIONS:
                     self.assertIs(type(samples.refusal(asked, book, strength)), BadStrength)
@@ -137,7 +95,7 @@ class Fewest(unittest.TestCase):
                 self.assertEqual(len(fewest((levels, ()), strength)), many)
 
     def test_a_cover_of_tests(self):
-        for book in small_books() + JUST_SMALL:
+        for book in small_books() + samples.JUST_SMALL:
             for strength in samples.strengths(book):
                 with self.subTest(book=book, strength=strength):
                     tests = fewest(book, strength)
@@ -152,12 +110,12 @@ class Fewest(unittest.TestCase):
                 many = len(fewest(book, strength))
                 if many > 0:
                     with self.subTest(book=book, strength=strength):
-                        self.assertTrue(some_cover(book, strength, many))
-                        self.assertFalse(some_cover(book, strength, many - 1))
+                        self.assertTrue(samples.some_cover(book, strength, many))
+                        self.assertFalse(samples.some_cover(book, strength, many - 1))
 
     def test_the_empty_list_where_nothing_is_possible(self):
         for strength in (1, 2, 3):
-            self.assertEqual(fewest(NO_TEST, strength), [])
+            self.assertEqual(fewest(samples.NO_TEST, strength), [])
         self.assertEqual(fewest(((1,), (((0, 0),),)), 1), [])
 
 
@@ -168,14 +126,14 @@ class Apart(unittest.TestCase):
                 self.assertEqual(len(apart((levels, ()), strength)), apart_many)
 
     def test_possible_meetings_rising_no_two_met_by_one_test(self):
-        for book in small_books() + JUST_SMALL:
+        for book in small_books() + samples.JUST_SMALL:
             for strength in samples.strengths(book):
                 with self.subTest(book=book, strength=strength):
                     meetings = apart(book, strength)
                     self.assertIs(type(meetings), list)
                     self.assertLessEqual(set(meetings), set(samples.plain_possible(book, strength)))
                     self.assertEqual(meetings, sorted(set(meetings)))
-                    self.assertTrue(are_apart(meetings, samples.plain_tests(book)))
+                    self.assertTrue(samples.are_apart(meetings, samples.plain_tests(book)))
                     kinds = {type(part) for meeting in meetings for pair in meeting for part in (meeting, pair)}
                     self.assertEqual(kinds - {tuple}, set())
 
@@ -194,13 +152,13 @@ class Apart(unittest.TestCase):
 
     def test_the_empty_list_where_nothing_is_possible(self):
         for strength in (1, 2, 3):
-            self.assertEqual(apart(NO_TEST, strength), [])
+            self.assertEqual(apart(samples.NO_TEST, strength), [])
         self.assertEqual(apart(((1,), (((0, 0),),)), 1), [])
 
 
 class Both(unittest.TestCase):
     def test_more_tests_than_meetings_apart(self):
-        for book in WITH_A_GAP:
+        for book in samples.WITH_A_GAP:
             self.assertEqual(len(fewest(book, 2)), len(apart(book, 2)) + 1, book)
         # Of 24 tests each.
         book = ((2, 2, 2, 3, 2), (((0, 1), (2, 0), (3, 1)), ((0, 0), (2, 0), (3, 2)), ((3, 0),)))
@@ -209,7 +167,7 @@ class Both(unittest.TestCase):
         self.assertEqual((len(fewest(book, 2)), len(apart(book, 2))), (6, 5))
 
     def test_answers_come_soon(self):
-        for book in JUST_SMALL + samples.drawn_books(100):
+        for book in samples.JUST_SMALL + samples.drawn_books(100):
             if len(samples.plain_tests(book)) <= 24:
                 for strength in samples.strengths(book):
                     for asked in FUNCTIONS:
@@ -218,7 +176,7 @@ class Both(unittest.TestCase):
                         self.assertLess(time.perf_counter() - begin, 5)
 
     def test_the_book_stays_and_the_lists_are_new(self):
-        for book in JUST_SMALL:
+        for book in samples.JUST_SMALL:
             before = copy.deepcopy(book)
             for strength in samples.strengths(book):
                 for asked in FUNCTIONS:
@@ -232,10 +190,10 @@ class Both(unittest.TestCase):
 
     def test_calls_with_other_books_between(self):
         for asked in FUNCTIONS:
-            alone = asked(JUST_SMALL[0], 2)
-            asked(JUST_SMALL[3], 2)
-            asked(JUST_SMALL[0], 3)
-            self.assertEqual(asked(JUST_SMALL[0], 2), alone)
+            alone = asked(samples.JUST_SMALL[0], 2)
+            asked(samples.JUST_SMALL[3], 2)
+            asked(samples.JUST_SMALL[0], 3)
+            self.assertEqual(asked(samples.JUST_SMALL[0], 2), alone)
 
 
 if __name__ == "__main__":

@@ -171,6 +171,13 @@ class Language(unittest.TestCase):
                 bound |= {one.id for one in inside if isinstance(one, ast.Name) and isinstance(one.ctx, ast.Store)}
                 self.assertEqual(bound & taken, set(), f"L15 {path} {function.name}")
 
+    def test_methods_and_values_of_objects(self):
+        methods = methods_of(self.trees.values())
+        values = {node.attr for path, node in self.nodes(ast.Attribute) if isinstance(node.ctx, ast.Store)}
+        taken = {name for kind in (str, int, list, dict, set, bytes, tuple) for name in dir(kind)}
+        self.assertEqual(methods & values, set(), "L18")
+        self.assertEqual((methods | values) & taken - {"__init__"}, set(), "L26")
+
     def test_called_methods(self):
         known = METHODS | methods_of(self.trees.values())
         for path, node in self.nodes(ast.Call):

@@ -6,7 +6,6 @@ from pairtests.errors import BadBook, BadStrength, TestError
 from pairtests.meetings import all_meetings, impossible, possible
 
 FUNCTIONS = (all_meetings, possible, impossible)
-NO_TEST = ((2, 2, 1), (((0, 0),), ((0, 1),)))
 
 
 class Meetings(unittest.TestCase):
@@ -52,9 +51,9 @@ class Meetings(unittest.TestCase):
 
     def test_a_book_without_a_test(self):
         for strength in (1, 2, 3):
-            self.assertEqual(possible(NO_TEST, strength), [])
-            self.assertEqual(impossible(NO_TEST, strength), all_meetings(NO_TEST, strength))
-            self.assertEqual(all_meetings(NO_TEST, strength), samples.plain_meetings(NO_TEST, strength))
+            self.assertEqual(possible(samples.NO_TEST, strength), [])
+            self.assertEqual(impossible(samples.NO_TEST, strength), all_meetings(samples.NO_TEST, strength))
+            self.assertEqual(all_meetings(samples.NO_TEST, strength), samples.plain_meetings(samples.NO_TEST, strength))
 
     def test_like_the_plain_way(self):
         for book in samples.GOOD_BOOKS + samples.drawn_books(150):
